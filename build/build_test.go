@@ -139,21 +139,6 @@ func TestOut(t *testing.T) {
 	}
 }
 
-// scribble changes all of a net.
-func scribble(n api.Net) {
-	for place := range n.Nodes {
-		n.Nodes[place] = probe.One(1)
-	}
-	for _, ports := range [][]api.Port{n.Ins, n.Outs} {
-		for i, p := range ports {
-			for k := range p.Bits {
-				p.Bits[k] = 0
-			}
-			ports[i] = probe.Port("other", 1)
-		}
-	}
-}
-
 // What is told shares nothing with the builder, nor with what it was told.
 func TestNetIsACopy(t *testing.T) {
 	b := build.New()
@@ -172,7 +157,7 @@ func TestNetIsACopy(t *testing.T) {
 	}
 	late := b.Net()
 	keep := probe.Clone(late)
-	scribble(late)
+	probe.Scribble(late)
 	if !net.Same(b.Net(), keep) || !net.Same(first, want) {
 		t.Errorf("what was changed in a net changed the builder: %s", show(b.Net()))
 	}

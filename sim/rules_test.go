@@ -102,26 +102,11 @@ func TestWrongScripts(t *testing.T) {
 	}
 }
 
-// scribble changes all of a net.
-func scribble(n api.Net) {
-	for place := range n.Nodes {
-		n.Nodes[place] = one(1)
-	}
-	for _, ports := range [][]api.Port{n.Ins, n.Outs} {
-		for i, p := range ports {
-			for k := range p.Bits {
-				p.Bits[k] = 0
-			}
-			ports[i] = port("other", 1)
-		}
-	}
-}
-
 func TestNetStays(t *testing.T) {
 	n := counter()
 	s, other := made(t, n), made(t, n)
 	steps(t, s, small(1, 1), small(1, 2))
-	scribble(n)
+	probe.Scribble(n)
 	steps(t, s, small(1, 2), small(2, 1))
 	is(t, s, 1, 1)
 	s.Reset()
