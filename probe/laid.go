@@ -1,6 +1,7 @@
 package probe
 
 import (
+	"slices"
 	"strconv"
 
 	"slipstick/api"
@@ -40,6 +41,46 @@ func Every(widths ...int) [][][]int {
 			all = all[width:]
 		}
 		script = append(script, words)
+	}
+	return script
+}
+
+// mostEvery is up to how many bits Some goes through all values.
+const mostEvery = 10
+
+// edge is a word of bits that are all the same, or all but one, or of no rule.
+func (r *Rule) edge(width int) []int {
+	word := slices.Repeat([]int{r.Below(2)}, width)
+	if width == 0 {
+		return word
+	}
+	switch r.Below(3) {
+	case 0:
+		k := r.Below(width)
+		word[k] = 1 - word[k]
+	case 1:
+		for k := range word {
+			word[k] = r.Below(2)
+		}
+	}
+	return word
+}
+
+// Some is a cycle for each choice of values of words, of these widths, where these are few; else 400 of edges and of no rule.
+func Some(widths ...int) [][][]int {
+	bits := 0
+	for _, width := range widths {
+		bits += width
+	}
+	if bits <= mostEvery {
+		return Every(widths...)
+	}
+	r := NewRule(uint64(bits))
+	script := make([][][]int, 400)
+	for i := range script {
+		for _, width := range widths {
+			script[i] = append(script[i], r.edge(width))
+		}
 	}
 	return script
 }
