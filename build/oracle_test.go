@@ -1,7 +1,6 @@
 package build_test
 
 import (
-	"fmt"
 	"slices"
 	"testing"
 
@@ -11,10 +10,7 @@ import (
 	"slipstick/probe"
 )
 
-// show is the head of a net.
-func show(n api.Net) string {
-	return fmt.Sprintf("%d nodes %v, in %v, out %v", len(n.Nodes), n.Nodes[:min(len(n.Nodes), 30)], n.Ins, n.Outs)
-}
+var show = probe.Show
 
 // laid is the net of a word that is laid of words of these widths. That nothing but a word of so many bits is laid, behind what was there, no Inputs and no Dffs, is held against the net.
 func laid(t *testing.T, widths []int, wide int, lay func(b *build.B, words [][]int) []int) api.Net {

@@ -1,7 +1,6 @@
 package fold_test
 
 import (
-	"fmt"
 	"slices"
 	"strings"
 	"testing"
@@ -12,12 +11,7 @@ import (
 	"slipstick/probe"
 )
 
-var one, input, not, and, or, xor, mux, dff, port, of = probe.One, probe.Input, probe.Not, probe.And, probe.Or, probe.Xor, probe.Mux, probe.Dff, probe.Port, probe.Of
-
-// show is a net, to be read.
-func show(n api.Net) string {
-	return fmt.Sprintf("%d nodes %v, in %v, out %v", len(n.Nodes), n.Nodes[:min(len(n.Nodes), 30)], n.Ins[:min(len(n.Ins), 4)], n.Outs[:min(len(n.Outs), 4)])
-}
+var one, input, not, and, or, xor, mux, dff, port, of, show = probe.One, probe.Input, probe.Not, probe.And, probe.Or, probe.Xor, probe.Mux, probe.Dff, probe.Port, probe.Of, probe.Show
 
 // rule is a line of the document, of a kind: what holds, and what is done then. What holds is all of some words, parted by commas: a=0, a=1 (likewise b, c), a=b, turned (one is a Not of the other one), not (a is a Not). What is done is a letter (that one stands for it; x is what the Not a uses), or the kind it becomes, with its letters, or its value.
 type rule struct {
@@ -182,17 +176,8 @@ func follows(t *testing.T, n, m api.Net) {
 	if e := net.Check(m); e != api.OK {
 		t.Fatalf("Fold of %s may not be: %s, %d", show(n), show(m), e)
 	}
-	if !probe.Alike(n, m, probe.NewRule(uint64(len(n.Nodes))).Script(n, 12)) {
-		t.Fatalf("Fold of %s tells other than that: %s", show(n), show(m))
-	}
-	ports := func(n api.Net) (all []string) {
-		for _, p := range slices.Concat(n.Ins, n.Outs) {
-			all = append(all, fmt.Sprint(p.Name, len(p.Bits)))
-		}
-		return all
-	}
-	if !slices.Equal(ports(n), ports(m)) || len(n.Nodes) != len(m.Nodes) {
-		t.Fatalf("Fold of %s has other ports, or nodes: %s", show(n), show(m))
+	if fault := probe.Differs(n, m, probe.NewRule(uint64(len(n.Nodes))).Script(n, 12)); fault != "" || len(n.Nodes) != len(m.Nodes) {
+		t.Fatalf("Fold of %s: %s: %s", show(n), show(m), fault)
 	}
 	for at, needed := range probe.Needed(m) {
 		x := m.Nodes[at]

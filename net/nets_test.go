@@ -1,8 +1,6 @@
 package net_test
 
 import (
-	"fmt"
-
 	"slipstick/api"
 	"slipstick/probe"
 )
@@ -11,15 +9,10 @@ import (
 
 var one, input, not, and, or, xor, mux, dff, port, of = probe.One, probe.Input, probe.Not, probe.And, probe.Or, probe.Xor, probe.Mux, probe.Dff, probe.Port, probe.Of
 
-var ordinary, line, ahead, ring = probe.Ordinary, probe.Line, probe.Ahead, probe.Ring
+var ordinary, line, ahead, ring, show = probe.Ordinary, probe.Line, probe.Ahead, probe.Ring, probe.Show
 
 // cut is the head of a list, so that what is told of a great one can be read.
 func cut(all []int) []int { return all[:min(len(all), 20)] }
-
-// show is the head of a net.
-func show(n api.Net) string {
-	return fmt.Sprintf("%d nodes %v, in %v, out %v", len(n.Nodes), n.Nodes[:min(len(n.Nodes), 20)], n.Ins, n.Outs)
-}
 
 // tree is a net of so many Inputs, two of which are put together, and so on.
 func tree(wide int) api.Net {

@@ -146,7 +146,7 @@ func TestWidthsOfPlaces(t *testing.T) {
 		if place == 0 {
 			places = one(0)
 		}
-		for _, width := range []int{0, 1, 4, 13, 14, 40} {
+		for _, width := range []int{0, 1, 4, 13, 14, 40, 63, 127} {
 			sizes := [][]int{nil}
 			if width > 0 {
 				sizes = edges(r, f, width, 6)

@@ -2,6 +2,7 @@ package probe
 
 import (
 	"slices"
+	"strconv"
 
 	"slipstick/api"
 )
@@ -61,11 +62,39 @@ func Apart(n api.Net, remake func(n api.Net) api.Net) bool {
 	return Same(made, kept) && listsApart(made) && Same(remake(Clone(n)), kept)
 }
 
-// Alike tells whether the same goes out of two nets, cycle by cycle.
-func Alike(a, b api.Net, script [][][]int) bool {
-	return slices.EqualFunc(Told(a, script), Told(b, script), func(p, q [][]int) bool {
-		return slices.EqualFunc(p, q, slices.Equal[[]int])
-	})
+// sameShape tells whether ports have the same names, and as many bits.
+func sameShape(a, b []api.Port) bool {
+	return slices.EqualFunc(a, b, func(p, q api.Port) bool { return p.Name == q.Name && len(p.Bits) == len(q.Bits) })
+}
+
+// Differs tells in what a net differs from one that it was made of, and shall tell the same as, by other nodes, and no more of them; nothing, if in nothing.
+func Differs(n, m api.Net, script [][][]int) string {
+	if len(m.Nodes) > len(n.Nodes) {
+		return "more nodes"
+	}
+	if !sameShape(n.Ins, m.Ins) || !sameShape(n.Outs, m.Outs) {
+		return "other ports"
+	}
+	was := Told(n, script)
+	for i, told := range Told(m, script) {
+		if !sameWords(told, was[i]) {
+			return "cycle" + numbers([]int{i}) + ": " + text(told) + ", not " + text(was[i])
+		}
+	}
+	return ""
+}
+
+// Uses are pointers to the places that a node uses.
+func Uses(x *api.Node) []*int {
+	switch x.Kind {
+	case api.Not, api.Dff:
+		return []*int{&x.A}
+	case api.And, api.Or, api.Xor:
+		return []*int{&x.A, &x.B}
+	case api.Mux:
+		return []*int{&x.A, &x.B, &x.C}
+	}
+	return nil
 }
 
 // Needed tells of each node whether it goes out, or something hangs on it that does, over Dffs too.
@@ -83,14 +112,30 @@ func Needed(n api.Net) []bool {
 		}
 		needed[place] = true
 		x := n.Nodes[place]
-		switch x.Kind {
-		case api.Not, api.Dff:
-			waits = append(waits, x.A)
-		case api.And, api.Or, api.Xor:
-			waits = append(waits, x.A, x.B)
-		case api.Mux:
-			waits = append(waits, x.A, x.B, x.C)
+		for _, use := range Uses(&x) {
+			waits = append(waits, *use)
 		}
 	}
 	return needed
+}
+
+// mostShown is how many nodes, and ports, of a net are shown.
+const mostShown = 30
+
+// shownPorts are the first of some ports, to be read.
+func shownPorts(ports []api.Port) string {
+	s := ""
+	for _, p := range ports[:min(len(ports), mostShown)] {
+		s += " " + p.Name + " [" + numbers(p.Bits[:min(len(p.Bits), mostShown)]) + " ]"
+	}
+	return s
+}
+
+// Show is a net, to be read: how many nodes there are, and the first of all its parts.
+func Show(n api.Net) string {
+	s := strconv.Itoa(len(n.Nodes)) + " nodes"
+	for _, x := range n.Nodes[:min(len(n.Nodes), mostShown)] {
+		s += " {" + numbers([]int{x.Kind, x.A, x.B, x.C}) + " }"
+	}
+	return s + ", in" + shownPorts(n.Ins) + ", out" + shownPorts(n.Outs)
 }

@@ -1,7 +1,6 @@
 package retime_test
 
 import (
-	"fmt"
 	"slices"
 	"testing"
 
@@ -11,17 +10,7 @@ import (
 	"slipstick/retime"
 )
 
-var one, input, not, and, or, xor, mux, dff, port, of = probe.One, probe.Input, probe.Not, probe.And, probe.Or, probe.Xor, probe.Mux, probe.Dff, probe.Port, probe.Of
-
-// show is a net, to be read.
-func show(n api.Net) string {
-	return fmt.Sprintf("%d nodes %v, in %v, out %v", len(n.Nodes), n.Nodes[:min(len(n.Nodes), 30)], n.Ins[:min(len(n.Ins), 4)], n.Outs[:min(len(n.Outs), 4)])
-}
-
-// places are pointers to the places that a node uses.
-func places(x *api.Node) []*int {
-	return map[int][]*int{api.Not: {&x.A}, api.Dff: {&x.A}, api.And: {&x.A, &x.B}, api.Or: {&x.A, &x.B}, api.Xor: {&x.A, &x.B}, api.Mux: {&x.A, &x.B, &x.C}}[x.Kind]
-}
+var one, input, not, and, or, xor, mux, dff, port, of, show = probe.One, probe.Input, probe.Not, probe.And, probe.Or, probe.Xor, probe.Mux, probe.Dff, probe.Port, probe.Of, probe.Show
 
 // rising are the levels, found by going through the nodes till none changes.
 func rising(nodes []api.Node) []int {
@@ -29,7 +18,7 @@ func rising(nodes []api.Node) []int {
 	for more := true; more; {
 		more = false
 		for at := range nodes {
-			for _, place := range places(&nodes[at]) {
+			for _, place := range probe.Uses(&nodes[at]) {
 				if nodes[at].Kind != api.Dff && levels[at] <= levels[*place] {
 					levels[at], more = levels[*place]+1, true
 				}
@@ -68,7 +57,7 @@ func wanted(n api.Net, d int) api.Net {
 	stages, _ := staged(n, d)
 	uses := map[int][]use{}
 	for at := range m.Nodes {
-		for _, place := range places(&m.Nodes[at]) {
+		for _, place := range probe.Uses(&m.Nodes[at]) {
 			uses[*place] = append(uses[*place], use{place, stages[at]})
 		}
 	}
@@ -167,7 +156,7 @@ func (w *walker) walk(at, dffs int) {
 	case api.Dff:
 		dffs++
 	}
-	for _, place := range places(&x) {
+	for _, place := range probe.Uses(&x) {
 		w.walk(*place, dffs)
 	}
 	w.on[at] = false

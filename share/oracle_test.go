@@ -1,7 +1,6 @@
 package share_test
 
 import (
-	"fmt"
 	"slices"
 	"testing"
 
@@ -11,12 +10,7 @@ import (
 	"slipstick/share"
 )
 
-var one, input, not, and, or, xor, mux, dff, port, of = probe.One, probe.Input, probe.Not, probe.And, probe.Or, probe.Xor, probe.Mux, probe.Dff, probe.Port, probe.Of
-
-// show is a net, to be read.
-func show(n api.Net) string {
-	return fmt.Sprintf("%d nodes %v, in %v, out %v", len(n.Nodes), n.Nodes[:min(len(n.Nodes), 30)], n.Ins[:min(len(n.Ins), 4)], n.Outs[:min(len(n.Outs), 4)])
-}
+var one, input, not, and, or, xor, mux, dff, port, of, show = probe.One, probe.Input, probe.Not, probe.And, probe.Or, probe.Xor, probe.Mux, probe.Dff, probe.Port, probe.Of, probe.Show
 
 // levels are the nodes' levels, each asked for when it is needed.
 func levels(nodes []api.Node) []int {
@@ -121,8 +115,8 @@ func follows(t *testing.T, n, m api.Net) {
 	if e := net.Check(m); e != api.OK {
 		t.Fatalf("Share of %s may not be: %s, %d", show(n), show(m), e)
 	}
-	if !probe.Alike(n, m, probe.NewRule(uint64(len(n.Nodes))).Script(n, 12)) {
-		t.Fatalf("Share of %s tells other than that: %s", show(n), show(m))
+	if fault := probe.Differs(n, m, probe.NewRule(uint64(len(n.Nodes))).Script(n, 12)); fault != "" || len(n.Nodes) != len(m.Nodes) {
+		t.Fatalf("Share of %s: %s: %s", show(n), show(m), fault)
 	}
 	needed := probe.Needed(m)
 	for a, x := range m.Nodes {

@@ -1,7 +1,6 @@
 package sim_test
 
 import (
-	"fmt"
 	"slices"
 	"testing"
 
@@ -11,7 +10,7 @@ import (
 	"slipstick/sim"
 )
 
-var one, input, not, and, or, xor, mux, dff, port, of = probe.One, probe.Input, probe.Not, probe.And, probe.Or, probe.Xor, probe.Mux, probe.Dff, probe.Port, probe.Of
+var one, input, not, and, or, xor, mux, dff, port, of, show = probe.One, probe.Input, probe.Not, probe.And, probe.Or, probe.Xor, probe.Mux, probe.Dff, probe.Port, probe.Of, probe.Show
 
 // number is a word's number, without parts 0 at its end.
 func number(word []int) nat.Nat {
@@ -57,11 +56,6 @@ func small(all ...uint32) []nat.Nat {
 // same tells whether numbers are the same, part by part.
 func same(a, b []nat.Nat) bool {
 	return slices.EqualFunc(a, b, func(p, q nat.Nat) bool { return slices.Equal(p, q) })
-}
-
-// show is a net, to be read.
-func show(n api.Net) string {
-	return fmt.Sprintf("%d nodes %v, in %v, out %v", len(n.Nodes), n.Nodes[:min(len(n.Nodes), 20)], n.Ins[:min(len(n.Ins), 4)], n.Outs[:min(len(n.Outs), 4)])
 }
 
 // made is New of a net that may be.

@@ -1,7 +1,6 @@
 package sweep_test
 
 import (
-	"fmt"
 	"slices"
 	"testing"
 
@@ -11,24 +10,14 @@ import (
 	"slipstick/sweep"
 )
 
-var one, input, not, and, or, xor, mux, dff, port, of = probe.One, probe.Input, probe.Not, probe.And, probe.Or, probe.Xor, probe.Mux, probe.Dff, probe.Port, probe.Of
-
-// show is a net, to be read.
-func show(n api.Net) string {
-	return fmt.Sprintf("%d nodes %v, in %v, out %v", len(n.Nodes), n.Nodes[:min(len(n.Nodes), 30)], n.Ins[:min(len(n.Ins), 4)], n.Outs[:min(len(n.Outs), 4)])
-}
-
-// places are pointers to the places that a node uses.
-func places(x *api.Node) []*int {
-	return map[int][]*int{api.Not: {&x.A}, api.Dff: {&x.A}, api.And: {&x.A, &x.B}, api.Or: {&x.A, &x.B}, api.Xor: {&x.A, &x.B}, api.Mux: {&x.A, &x.B, &x.C}}[x.Kind]
-}
+var one, input, not, and, or, xor, mux, dff, port, of, show = probe.One, probe.Input, probe.Not, probe.And, probe.Or, probe.Xor, probe.Mux, probe.Dff, probe.Port, probe.Of, probe.Show
 
 // spread goes through all nodes till no more is laid to those that are: what one of those uses.
 func spread(nodes []api.Node, is []bool) []bool {
 	for more := true; more; {
 		more = false
 		for at := range nodes {
-			for _, place := range places(&nodes[at]) {
+			for _, place := range probe.Uses(&nodes[at]) {
 				if is[at] && !is[*place] {
 					is[*place], more = true, true
 				}
@@ -58,7 +47,7 @@ func without(n api.Net, gone int) api.Net {
 	m.Nodes = slices.Delete(m.Nodes, gone, gone+1)
 	var all []*int
 	for at := range m.Nodes {
-		all = append(all, places(&m.Nodes[at])...)
+		all = append(all, probe.Uses(&m.Nodes[at])...)
 	}
 	for _, p := range slices.Concat(m.Ins, m.Outs) {
 		for k := range p.Bits {
@@ -109,8 +98,8 @@ func check(t *testing.T, n api.Net) {
 	if e := net.Check(m); e != api.OK {
 		t.Fatalf("Sweep of %s may not be: %s, %d", show(n), show(m), e)
 	}
-	if !probe.Alike(n, m, probe.NewRule(uint64(len(n.Nodes))).Script(n, 12)) {
-		t.Fatalf("Sweep of %s tells other than that: %s", show(n), show(m))
+	if fault := probe.Differs(n, m, probe.NewRule(uint64(len(n.Nodes))).Script(n, 12)); fault != "" {
+		t.Fatalf("Sweep of %s: %s: %s", show(n), show(m), fault)
 	}
 	if again, more := sweeps(t, m); !net.Same(again, m) || more != 0 {
 		t.Fatalf("Sweep of %s, swept again: %s, then %s, %d", show(n), show(m), show(again), more)
