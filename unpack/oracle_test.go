@@ -4,7 +4,6 @@ import (
 	"slices"
 	"testing"
 
-	"slipstick/api"
 	"slipstick/build"
 	"slipstick/dyad"
 	"slipstick/format"
@@ -15,20 +14,6 @@ import (
 
 // one is a word of a bit.
 func one(bit int) []int { return []int{bit} }
-
-// forms are all formats.
-func forms(t *testing.T) []format.Form {
-	t.Helper()
-	var all []format.Form
-	for _, bits := range []int{16, 32, 64} {
-		f, e := format.Of(bits)
-		if e != api.OK {
-			t.Fatalf("Of %d: %d", bits, e)
-		}
-		all = append(all, f)
-	}
-	return all
-}
 
 // patterns are words of a format: of 16 bits all, else those at the edges of each class, of both signs, and some of no rule.
 func patterns(f format.Form) []uint64 {

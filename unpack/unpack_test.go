@@ -10,6 +10,7 @@ import (
 	"slipstick/build"
 	"slipstick/dyad"
 	"slipstick/format"
+	"slipstick/oracle"
 	"slipstick/probe"
 	"slipstick/unpack"
 )
@@ -25,14 +26,14 @@ func laid(f format.Form) probe.Case[*build.B] {
 
 // All words of 16 bits; of the others those at the edges of each class, and some of no rule.
 func TestOf(t *testing.T) {
-	for _, f := range forms(t) {
+	for _, f := range oracle.Forms() {
 		holds(t, fmt.Sprint("Of, of ", f.Bits), laid(f), script(patterns(f), f.Bits))
 	}
 }
 
 // The chapter's examples, and words written out.
 func TestWrittenOut(t *testing.T) {
-	f := forms(t)
+	f := oracle.Forms()
 	for _, c := range []struct {
 		f                             format.Form
 		word, exp, size               uint64
@@ -111,7 +112,7 @@ func kinds(f format.Form) []uint64 {
 }
 
 func TestFirst(t *testing.T) {
-	for _, f := range forms(t) {
+	for _, f := range oracle.Forms() {
 		firstHolds(t, f, [][]uint64{{}})
 		var twos, threes, fours [][]uint64
 		for _, v := range patterns(f) {
@@ -136,12 +137,12 @@ func TestFirst(t *testing.T) {
 	for v := range uint64(1 << 16) {
 		ones = append(ones, []uint64{v})
 	}
-	firstHolds(t, forms(t)[0], ones)
+	firstHolds(t, oracle.Forms()[0], ones)
 }
 
 func TestPut(t *testing.T) {
 	r := probe.NewRule(18)
-	for _, f := range forms(t) {
+	for _, f := range oracle.Forms() {
 		all := []uint64{0, 1, f.None(), f.Infinite(true), f.Greatest(false), 1 << (f.Bits - 1), 1<<(f.Bits-1) - 1, math.MaxUint64, 1 << 63, 0x123456789abcdef0}
 		for range 50 {
 			all = append(all, r.Next())
@@ -161,7 +162,7 @@ func TestPut(t *testing.T) {
 
 // A finite number's size is its Size times 2 to the power of Low and Exp less 1.
 func TestSizes(t *testing.T) {
-	for _, f := range forms(t) {
+	for _, f := range oracle.Forms() {
 		n, _ := laid(f).Net()
 		cycles := script(patterns(f), f.Bits)
 		for i, told := range probe.Tells(n, cycles) {
@@ -176,7 +177,7 @@ func TestSizes(t *testing.T) {
 
 // Forms that format.Of doesn't tell, and words of other lengths: no call panics.
 func TestNoPanic(t *testing.T) {
-	for _, f := range append(forms(t), format.Form{}, format.Form{Bits: 16, P: 99, Wide: 5}, format.Form{Bits: -1, P: -1, Wide: -1}, format.Form{Bits: 8, P: 4, Wide: 4}) {
+	for _, f := range append(oracle.Forms(), format.Form{}, format.Form{Bits: 16, P: 99, Wide: 5}, format.Form{Bits: -1, P: -1, Wide: -1}, format.Form{Bits: 8, P: 4, Wide: 4}) {
 		for _, width := range []int{0, 1, 15, 16, 17, 70} {
 			b := build.New()
 			x := b.In("x", width)
