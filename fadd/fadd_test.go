@@ -1,7 +1,6 @@
 package fadd_test
 
 import (
-	"slices"
 	"testing"
 
 	"slipstick/api"
@@ -31,26 +30,15 @@ func TestWrittenOut(t *testing.T) {
 		in = append(in, []uint64{c.mode, c.sub, c.x, c.y})
 		want = append(want, []uint64{c.bits, c.flags})
 	}
-	for i, got := range lays(oracle.Forms()[0]).Told(in) {
-		if !slices.Equal(got, want[i]) {
-			t.Errorf("%x: %x, want %x", in[i], got, want[i])
-		}
+	if fault := lays(oracle.Forms()[0]).Unlike(in, want); fault != "" {
+		t.Error(fault)
 	}
 }
 
 // Words of each class with words of each class.
 func TestEachClass(t *testing.T) {
 	for _, f := range oracle.Forms() {
-		var pairs [][2]uint64
-		for i, x := range oracle.Words(f) {
-			for j, y := range oracle.Words(f) {
-				// The fields of the great formats are as those of the small one.
-				if f.Bits == 16 || (i+j)%7 == 0 {
-					pairs = append(pairs, [2]uint64{x, y})
-				}
-			}
-		}
-		holds(t, f, pairs)
+		holds(t, f, oracle.Some(f))
 	}
 }
 
@@ -71,14 +59,14 @@ func TestNear(t *testing.T) {
 	for _, f := range oracle.Forms() {
 		r := probe.NewRule(uint64(20 * f.Bits))
 		most := f.Infinite(false)
-		var pairs [][2]uint64
+		var pairs [][]uint64
 		for range 1500 {
 			x := r.Next() % most
 			for _, step := range []uint64{0, 1, 2, 3, 1 << r.Below(f.P), 1<<(f.P-1) + 1, 1<<(f.P-1) - 1, 2 << (f.P - 1)} {
 				y := (x + step) % most
-				pairs = append(pairs, [2]uint64{x, y}, [2]uint64{y, x})
+				pairs = append(pairs, []uint64{x, y}, []uint64{y, x})
 			}
-			pairs = append(pairs, [2]uint64{x, r.Next() % most}, [2]uint64{x | 1<<(f.Bits-1), r.Next() & (1<<(f.Bits-1)<<1 - 1)})
+			pairs = append(pairs, []uint64{x, r.Next() % most}, []uint64{x | 1<<(f.Bits-1), r.Next() & oracle.Full(f)})
 		}
 		holds(t, f, pairs)
 	}
@@ -89,7 +77,7 @@ func TestApart(t *testing.T) {
 	for _, f := range oracle.Forms() {
 		unit := uint64(1) << (f.P - 1)
 		top := uint64(1)<<f.Wide - 2
-		var pairs [][2]uint64
+		var pairs [][]uint64
 		for gap := range uint64(2*f.P + 8) {
 			for _, x := range []uint64{top * unit, top*unit + unit - 1, top*unit + 1, top*unit + unit/2, (gap + 1) * unit, (gap+1)*unit + 1, (gap+2)*unit - 1} {
 				if x/unit < gap || x/unit > top {
@@ -97,7 +85,7 @@ func TestApart(t *testing.T) {
 				}
 				field := x/unit - gap
 				for _, fraction := range []uint64{0, 1, unit - 1, unit / 2, unit/2 + 1, unit/2 - 1} {
-					pairs = append(pairs, [2]uint64{x, field*unit | fraction}, [2]uint64{field*unit | fraction, x})
+					pairs = append(pairs, []uint64{x, field*unit | fraction}, []uint64{field*unit | fraction, x})
 				}
 			}
 		}
@@ -111,10 +99,10 @@ func TestBeyond(t *testing.T) {
 		unit := uint64(1) << (f.P - 1)
 		greatest := f.Greatest(false)
 		half := greatest - uint64(f.P)*unit - unit + 1
-		var pairs [][2]uint64
+		var pairs [][]uint64
 		for _, x := range []uint64{greatest, greatest - 1, greatest - 2, greatest &^ (unit - 1)} {
 			for _, y := range []uint64{half, half - 1, half + 1, half + unit, half + 2*unit, greatest, greatest - unit, 1} {
-				pairs = append(pairs, [2]uint64{x, y}, [2]uint64{x | 1<<(f.Bits-1), y | 1<<(f.Bits-1)})
+				pairs = append(pairs, []uint64{x, y}, []uint64{x | 1<<(f.Bits-1), y | 1<<(f.Bits-1)})
 			}
 		}
 		holds(t, f, pairs)
@@ -173,7 +161,7 @@ func TestChoose(t *testing.T) {
 			return [][]int{bits, flags}
 		}, Want: probe.Numbers(chosen(f), f.Bits, 5)}
 		r := probe.NewRule(uint64(203 * f.Bits))
-		mask := uint64(1)<<(f.Bits-1)<<1 - 1
+		mask := oracle.Full(f)
 		var all [][]uint64
 		for holds := range uint64(32) {
 			for _, flags := range []uint64{0, 1, 3, 5, 8, 16, 31} {
@@ -193,19 +181,14 @@ func TestChoose(t *testing.T) {
 func TestTurnedAbout(t *testing.T) {
 	for _, f := range oracle.Forms() {
 		var here, there [][]uint64
-		for i, x := range oracle.Words(f) {
-			for j, y := range oracle.Words(f) {
-				if (i+j)%5 == 0 && f.Class(x) <= format.Inf && f.Class(y) <= format.Inf {
-					here, there = append(here, []uint64{0, x, y}), append(there, []uint64{0, y, x})
-				}
+		for _, p := range oracle.Pairs(f, 5) {
+			if !oracle.IsNone(f, p) {
+				here, there = append(here, append([]uint64{0}, p...)), append(there, []uint64{0, p[1], p[0]})
 			}
 		}
-		here, there = oracle.ByModes(here), oracle.ByModes(there)
-		turned := lays(f).Told(there)
-		for i, told := range lays(f).Told(here) {
-			if !slices.Equal(told, turned[i]) {
-				t.Fatalf("%d bits, %x: %x, turned about %x", f.Bits, here[i], told, turned[i])
-			}
+		c := lays(f)
+		if fault := c.Unlike(oracle.ByModes(here), c.Told(oracle.ByModes(there))); fault != "" {
+			t.Errorf("%d bits: %s", f.Bits, fault)
 		}
 	}
 }

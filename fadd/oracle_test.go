@@ -26,13 +26,13 @@ func lays(f format.Form) probe.Case[*build.B] {
 // same holds a case of a format against what it must tell of numbers.
 func same(t *testing.T, f format.Form, c probe.Case[*build.B], all [][]uint64) {
 	t.Helper()
-	if fault := c.Amiss(probe.Cycles(all, c.Ins...)); fault != "" {
+	if fault := c.AmissOf(all); fault != "" {
 		t.Errorf("%d bits: %s", f.Bits, fault)
 	}
 }
 
 // holds holds sums and differences of pairs of words, by each mode, against exact ones.
-func holds(t *testing.T, f format.Form, pairs [][2]uint64) {
+func holds(t *testing.T, f format.Form, pairs [][]uint64) {
 	t.Helper()
 	var all [][]uint64
 	for _, p := range pairs {

@@ -2,6 +2,8 @@
 package oracle
 
 import (
+	"slices"
+
 	"slipstick/api"
 	"slipstick/format"
 	"slipstick/ieee"
@@ -43,6 +45,35 @@ func Words(f format.Form) []uint64 {
 	}
 	return all
 }
+
+// Pairs are pairs of those words: of all of them one of so many.
+func Pairs(f format.Form, many int) [][]uint64 {
+	var all [][]uint64
+	for i, x := range Words(f) {
+		for j, y := range Words(f) {
+			if (i+j)%many == 0 {
+				all = append(all, []uint64{x, y})
+			}
+		}
+	}
+	return all
+}
+
+// Some are as many of them as tests have the time for: all of 16 bits, of which the others are no other way than these.
+func Some(f format.Form) [][]uint64 {
+	if f.Bits == 16 {
+		return Pairs(f, 1)
+	}
+	return Pairs(f, 7)
+}
+
+// IsNone tells whether one of some words is no number.
+func IsNone(f format.Form, words []uint64) bool {
+	return slices.ContainsFunc(words, func(v uint64) bool { return f.Class(v) > format.Inf })
+}
+
+// Full is the word of which all bits are 1.
+func Full(f format.Form) uint64 { return f.Nought(true)<<1 - 1 }
 
 // One is the word of the number 1.
 func One(f format.Form) uint64 { return uint64(f.Bias()) << (f.P - 1) }
