@@ -352,7 +352,7 @@ func TestAnyTexts(t *testing.T) {
 	}
 }
 
-// The text is no part of what is told, and long texts of few tokens are read as well.
+// Long texts, of many tokens and of few.
 func TestLongTexts(t *testing.T) {
 	again(t, strings.Repeat("(", 1<<20))
 	again(t, strings.Repeat("module ", 1<<18))
